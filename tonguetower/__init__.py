@@ -1,0 +1,1 @@
+"""Tonguetower: languages made in languages, and programs that run as their meaning."""
