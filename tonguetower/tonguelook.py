@@ -2,16 +2,16 @@
 
 from tonguetower.errors import NoTongue
 from tonguetower.meaninglook import first_wrong
-from tonguetower.tongues import tongue_of
+from tonguetower.tongues import is_taken, tongue_names, tongue_of
 from tonguetower.words import is_name, is_sign
 
 
 def look_place(ahead, tongue):
     """Refuses a tongue by its name, or by what it stands on."""
     name, below = tongue[1:3]
-    if not is_name(name) or name in ["ground", *[item[1] for item in ahead]]:
+    if not is_name(name) or is_taken(ahead, name):
         raise NoTongue("name", "", -1)
-    if below not in ["ground", *[item[1] for item in ahead if item[0] == "tongue"]]:
+    if below not in tongue_names(ahead):
         raise NoTongue("below", "", -1)
 
 

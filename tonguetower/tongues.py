@@ -30,6 +30,16 @@ def tongue_of(tower, name):
     return [item for item in tower if item[0] == "tongue" and item[1] == name][0]
 
 
+def tongue_names(tower):
+    """The names of all tongues that something may stand on, or be written in."""
+    return ["ground", *[item[1] for item in tower if item[0] == "tongue"]]
+
+
+def is_taken(tower, name):
+    """Whether an item can't have a name, since the ground or another one has it."""
+    return name == "ground" or name in [item[1] for item in tower]
+
+
 def form_of(tower, tongue, head):
     """The form of a head in a tongue."""
     forms = tongue_of(tower, tongue)[6]
