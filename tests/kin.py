@@ -28,7 +28,12 @@ KIN = (
         ("M", (C, term("c", 0)), "a", let(own(0), num(1), hole(0))),
         ("N", (term("c"),), "a", hole(0)),
         ("D", (term("d"), ("sign", ")")), "d", hole(0)),
-        ("K", (B, A, term("b", 1), term("b", 0)), "a", let(own(0), num(1), let(own(1), num(1), plus(hole(0), hole(1))))),
+        (
+            "K",
+            (B, A, term("b", 1), term("b", 0)),
+            "a",
+            let(own(0), num(1), let(own(1), num(1), plus(hole(0), hole(1)))),
+        ),
         ("O", (A, ("lit",), term("a")), "a", hole(0)),
     ),
 )

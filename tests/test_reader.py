@@ -75,7 +75,23 @@ class ReadTest(unittest.TestCase):
     def test_figures(self):
         for number in (0, 1, 9, 10, 99, 100, 999):
             self.check(f"LIT {number}", lit(number))
-        for text in ("00", "01", "010", "0999", "1000", "1001", "99999", "-1", "+1", "1.0", "a", "x", "#", "LIT", "\u0663"):
+        for text in (
+            "00",
+            "01",
+            "010",
+            "0999",
+            "1000",
+            "1001",
+            "99999",
+            "-1",
+            "+1",
+            "1.0",
+            "a",
+            "x",
+            "#",
+            "LIT",
+            "\u0663",
+        ):
             self.check(f"LIT {text}", (1, ("#",)))
 
     def test_names(self):
@@ -191,7 +207,24 @@ class ChanceTest(unittest.TestCase):
         """A text is read just where it is a term let by; else it is told by which word it can't go on."""
         rng = random.Random(5)
         read = 0
-        words_tried = ["a", "x", "y", "SET", "LIT", "ADD", ",", ";", "=", "<", "LESS", "7", "1000", "mid.inc", "far.all", ""]
+        words_tried = [
+            "a",
+            "x",
+            "y",
+            "SET",
+            "LIT",
+            "ADD",
+            ",",
+            ";",
+            "=",
+            "<",
+            "LESS",
+            "7",
+            "1000",
+            "mid.inc",
+            "far.all",
+            "",
+        ]
         chance = Chance(rng)
         for _ in range(400):
             term = chance.term(TOWER, "duo", dict(KNOWN), "n", 3)

@@ -271,8 +271,28 @@ class FunctionTest(unittest.TestCase):
 
     def test_none(self):
         row = ["", ".", "mid", "inc", "mid.", ".inc", "mid.none", "none.inc", "mid.inc.", "mid.inc.inc", ".mid.inc"]
-        row += ["mid..inc", "inc.mid", "MID.inc", "mid.INC", " mid.inc", "mid.inc ", "mid inc", "mid.inc\n", "mid.is.inc"]
-        row += ["duo.LIT", "duo.n", "duo.inc", "trio.ONE", "ground.NUM", "ground.num", "duo.ADD", "quad.", "\u00e4.\u00f6"]
+        row += [
+            "mid..inc",
+            "inc.mid",
+            "MID.inc",
+            "mid.INC",
+            " mid.inc",
+            "mid.inc ",
+            "mid inc",
+            "mid.inc\n",
+            "mid.is.inc",
+        ]
+        row += [
+            "duo.LIT",
+            "duo.n",
+            "duo.inc",
+            "trio.ONE",
+            "ground.NUM",
+            "ground.num",
+            "duo.ADD",
+            "quad.",
+            "\u00e4.\u00f6",
+        ]
         for f in [*row, "far.none", "far.", "far", "far.off.off", "lib.inc", "mid.zero"]:
             for tell in (function_of, ahead_of):
                 with self.assertRaises(NoFunction, msg=f) as caught:

@@ -32,10 +32,7 @@ def wrong_params(item, at, kinds):
     if item[0] == "face":
         return [kind not in kinds for kind in params]
     names = [name for name, _ in params]
-    return [
-        not is_name(name) or name in names[:k] or kind not in kinds
-        for k, (name, kind) in enumerate(params)
-    ]
+    return [not is_name(name) or name in names[:k] or kind not in kinds for k, (name, kind) in enumerate(params)]
 
 
 def look_head(item, at, kinds):
