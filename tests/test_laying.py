@@ -24,7 +24,7 @@ from tests.samples import (
     turn,
     use,
 )
-from tests.tongues_made import FAR, LAG, LIT, LOW, NAME, form, function, part, slow, term, tongue
+from tests.tongues_made import FAR, LAG, LIT, LOW, NAME, form, function, part, term, tongue
 from tonguetower.errors import NoMaking, NoUse, TooBig, TowerError
 from tonguetower.kinds import look_term
 from tonguetower.laying import MAKING, PARTS, laid, laid_floor, laid_use
@@ -53,6 +53,14 @@ SET = form("SET", [NAME, term(), term(0)], let(own(0), hole(0), hole(1)))
 MY = form("MY", [term()], let("t", num(1), plus(hole(0), T)))
 HALF = form("HALF", [NAME, term(0), term()], let(own(0), num(1), plus(hole(0), hole(1))))
 BASE = (tongue(TW, DROP, SET, MY, HALF),)
+UP = tongue(
+    form("FOUR", [term()], t("TW", t("TW", hole(0)))),
+    form("LATE", [NAME, term(), term(0)], t("SET", own(0), hole(0), t("MY", hole(1)))),
+    form("OFF", [term(), term()], t("DROP", hole(1), hole(0))),
+    called="u",
+    below="t",
+    meaning="n",
+)
 
 
 class LaidTest(unittest.TestCase):
@@ -231,15 +239,7 @@ class LaidTest(unittest.TestCase):
         self.check(tower, call("p.f", t("S", X, Y), Z), call("p.f", call("low.sum", Y, call("low.same", X)), Z))
 
     def test_two_tongues(self):
-        up = tongue(
-            form("FOUR", [term()], t("TW", t("TW", hole(0)))),
-            form("LATE", [NAME, term(), term(0)], t("SET", own(0), hole(0), t("MY", hole(1)))),
-            form("OFF", [term(), term()], t("DROP", hole(1), hole(0))),
-            called="u",
-            below="t",
-            meaning="n",
-        )
-        tower = (*BASE, up)
+        tower = (*BASE, UP)
         four = plus(plus(X, X), plus(X, X))
         self.check(tower, u("FOUR", X), four)
         self.check(
@@ -641,15 +641,7 @@ class UseTest(unittest.TestCase):
 
 class FloorTest(unittest.TestCase):
     def setUp(self):
-        up = tongue(
-            form("FOUR", [term()], t("TW", t("TW", hole(0)))),
-            form("LATE", [NAME, term(), term(0)], t("SET", own(0), hole(0), t("MY", hole(1)))),
-            form("OFF", [term(), term()], t("DROP", hole(1), hole(0))),
-            called="u",
-            below="t",
-            meaning="n",
-        )
-        self.tower = (*BASE, up)
+        self.tower = (*BASE, UP)
 
     def check(self, tongue_of, given, due):
         told = laid_floor(self.tower, tongue_of, given)
@@ -722,7 +714,8 @@ class ChanceTest(unittest.TestCase):
             told[True] += 1
             self.assertTrue(are_alike(tower, ground_term, due))
             self.by_floors(tower, tongue_of, (params, kind, body), due)
-            self.by_uses(rng, tower, body, due)
+            if len(parts(due)) <= 300:
+                self.by_uses(rng, tower, body, due)
         self.assertGreater(told[True], 100)
         self.assertGreater(told[False], 5)
 

@@ -20,7 +20,6 @@ from tests.samples import (
     own,
     plus,
     times,
-    turn,
     use,
 )
 from tests.tongues_made import FAR, LAG, LIT, LOW, NAME, NUM, TWO, form, function, part, term, tongue

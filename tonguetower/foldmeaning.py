@@ -44,6 +44,10 @@ class Sight:
         self.steps = steps
         self.laid = laid
 
+    def seeing(self, names):
+        """This sight where more names are seen."""
+        return Sight({**self.names, **names}, self.steps, self.laid)
+
 
 class LaidUse:
     """A use of the tongue beneath that is laid down: its things, and what they see."""
@@ -62,11 +66,6 @@ class Around:
     def __init__(self, floors, bound):
         self.floors = floors
         self.bound = bound
-
-
-def with_names(sight, names):
-    """A sight in which more names are seen."""
-    return Sight({**sight.names, **names}, sight.steps, sight.laid)
 
 
 class Fold:
@@ -158,7 +157,7 @@ def put_lower_use(fold, meaning, place, target):
         if item[0] == "name":
             rows.append((left.pop(), sight, around))
         elif item[0] == "term":
-            inner = with_names(sight, {made[k]: new[k] for k in item[2]})
+            inner = sight.seeing({made[k]: new[k] for k in item[2]})
             bound = {new[k]: True for k in item[2]}
             rows.append((thing, inner, Around(around.floors, {**around.bound, **bound})))
         else:
@@ -184,7 +183,8 @@ def put_hole(fold, meaning, place, target):
         fold.shell(meaning, target)
         return
     names = {laid.names[k]: sight.names[("own", k)] for k in laid.opens[meaning[1]]}
-    fold.later([(laid.terms[meaning[1]], with_names(laid.sight, names), around)], target)
+    inner = laid.sight.seeing(names)
+    fold.later([(laid.terms[meaning[1]], inner, around)], target)
 
 
 def put_choose(fold, meaning, place, target):

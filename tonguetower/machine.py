@@ -205,5 +205,8 @@ def begin(run, part, sight):
     run.turns += 1
     if run.turns > run.most:
         raise TooLong(run.most)
-    action = BEGINS[part.word] if part.shape == "use" else begin_call
+    if part.shape == "call":
+        begin_call(run, part, sight)
+        return
+    action = BEGINS[part.word]
     action(run, part, sight)
