@@ -1,19 +1,36 @@
 """What the document says of laying down and running, done plainly by calls: slow, and not of deep terms."""
 
 from tests.samples import letters
+from tonguetower.errors import NoBody, NoMaking, TooBig, TooLong, Unmade
 from tonguetower.tongues import GROUND, fault_up
 
 
 class Refused(Exception):
-    """A use can't be laid down; where and why is told by other tests."""
+    """What is refused, as a row: its word, then what it tells."""
+
+    def __init__(self, *row):
+        Exception.__init__(self, *row)
+        self.row = row
 
 
 class Fault(Exception):
     """A run ends by a fault: (fault, f, at)."""
 
 
-class Long(Exception):
-    """A run is too long."""
+def row_of(tell, *some, **more):
+    """What the program tells, or what it refuses, as a row like those of Plain."""
+    try:
+        return tell(*some, **more)
+    except NoMaking as error:
+        return ("making", error.at, error.why)
+    except Unmade as error:
+        return ("unmade", error.f, error.at, error.why)
+    except TooBig as error:
+        return ("big", error.most)
+    except TooLong as error:
+        return ("long", error.most)
+    except NoBody as error:
+        return ("face", error.f)
 
 
 class Part:
@@ -121,7 +138,7 @@ class Plain:
         if sort == "times":
             many = self.number(meaning[1], part, turns)
             if many > 9:
-                raise Refused
+                raise Refused("making", part.at, ("many",))
             return self.turned(many, meaning, part, names, turns, rest)
         if sort == "rest":
             return rest()
@@ -154,51 +171,84 @@ class Plain:
             return [thing for item, thing in self.items(part) if item[0] == "lit"][number[1]]
         if number[0] == "turn":
             return turns[number[1]]
-        told = self.ran(number[1], [self.number(inner, part, turns) for inner in number[2]], 5000)
+        numbers = [self.number(inner, part, turns) for inner in number[2]]
+        told = self.ran(number[1], numbers, 5000)
+        whys = {"face": ("face",), "unmade": ("unmade",), "big": ("unmade",), "long": ("long",), "fault": told[:4]}
         if told[0] != "told":
-            raise Refused
+            raise Refused("making", part.at, whys[told[0]])
         return told[1]
 
-    def laid_part(self, part):
+    def laid_part(self, part, most=3000, floors=0, count=None):
+        count = count or [0]
         while part.sort == "use" and part.tongue != "ground":
             part = self.laid_use(part)
-        things = [self.laid_part(thing) if isinstance(thing, Part) else thing for thing in part.things]
-        return part.but(things, part.begins)
+        count[0] += 1
+        if count[0] > most or floors > 40:
+            raise Refused("big", most)
+        inner = [self.laid_part(one, most, floors + 1, count) if isinstance(one, Part) else one for one in part.things]
+        return part.but(inner, part.begins)
 
-    def laid(self, term):
-        return bare(self.laid_part(annotated(term, [0])))
+    def laid(self, term, most=3000):
+        """The ground term that a term comes to, or the row of what is refused."""
+        try:
+            return bare(self.laid_part(annotated(term, [0]), most))
+        except Refused as refused:
+            return refused.row
+
+    def lay_ahead(self, f):
+        """Lays down a function and all that its ground calls, each as it is first come to."""
+        row = [f]
+        done = []
+        while row:
+            g = row.pop(0)
+            done.append(g)
+            for part in all_parts(self.body(g)):
+                if part.sort == "call" and part.word not in [*done, *row]:
+                    row.append(part.word)
+
+    def body(self, f):
+        if f not in self.functions:
+            raise Refused("face", f)
+        if f not in self.bodies:
+            try:
+                self.bodies[f] = self.laid_part(annotated(self.functions[f][1][3], [0]))
+            except Refused as refused:
+                raise Refused("unmade", f, *refused.row[1:]) if refused.row[0] == "making" else refused
+        return self.bodies[f]
 
     # Running: the calls are rows (function, the call).
 
     def ran(self, f, numbers, most=20000):
         return self.ran_seen(f, numbers, most)[0]
 
-    def ran_seen(self, f, numbers, most=20000):
-        key = (f, tuple(numbers), most)
+    def ran_seen(self, f, numbers, most=20000, need=False):
+        """What is told, or the row of what is refused; and what is seen."""
+        key = (f, tuple(numbers), most, need)
         if key not in self.kept:
-            self.kept[key] = self.ran_anew(f, numbers, most)
+            self.kept[key] = self.ran_anew(f, numbers, most, need)
         return self.kept[key]
 
-    def ran_anew(self, f, numbers, most):
-        run = {"turns": 0, "most": most, "calls": [], "seen": []}
+    def ran_anew(self, f, numbers, most, need):
+        run = {"turns": 0, "most": most, "calls": [], "seen": [], "need": need}
         tongue = self.functions[f][0] if f in self.functions else ""
         try:
+            if not need:
+                self.lay_ahead(f)
             told = ("told", self.called(f, numbers, run, None), run["turns"])
         except Fault as error:
             fault, g, at = error.args
             told = ("fault", fault_up(self.tower, fault, "ground", tongue), g, at, run["turns"])
-        except Long:
-            return ("long",), []
+        except Refused as refused:
+            return refused.row, []
         return told, [(g, at) for g, at in run["seen"] if self.functions[g][0] == tongue]
 
     def called(self, f, numbers, run, call):
         if f not in self.functions:
-            raise Refused
+            raise Refused("face", f)
         _, (_, params, _, body) = self.functions[f]
-        if f not in self.bodies:
-            self.bodies[f] = self.laid_part(annotated(body, [0]))
+        part = annotated(body, [0]) if run["need"] else self.bodies[f]
         run["calls"].append((f, call))
-        told = self.reckoned(self.bodies[f], dict(zip([x for x, _ in params], numbers)), run)
+        told = self.reckoned(part, dict(zip([x for x, _ in params], numbers)), run)
         run["calls"].pop()
         return told
 
@@ -208,13 +258,23 @@ class Plain:
                 return Fault(word, around[0], call.at)
         return Fault(word, run["calls"][-1][0], part.at)
 
+    def ripe(self, part, run):
+        """A part that is laid down by need."""
+        try:
+            while part.sort == "use" and part.tongue != "ground":
+                part = self.laid_use(part)
+        except Refused as refused:
+            raise Refused("unmade", run["calls"][-1][0], *refused.row[1:])
+        return part
+
     def reckoned(self, part, sight, run):
+        part = self.ripe(part, run)
         run["seen"] += [(run["calls"][-1][0], at) for at in part.begins]
         if part.sort == "name":
             return sight[part.word]
         run["turns"] += 1
         if run["turns"] > run["most"]:
-            raise Long
+            raise Refused("long", run["most"])
         things = part.things
         if part.sort == "call":
             return self.called(part.word, [self.reckoned(inner, sight, run) for inner in things], run, part)

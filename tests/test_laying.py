@@ -2,7 +2,7 @@ import random
 import unittest
 
 from tests.chance import Chance
-from tests.plainly import Plain, Refused
+from tests.plainly import Plain, row_of
 from tests.samples import (
     REST,
     TOWER,
@@ -688,36 +688,31 @@ class ChanceTest(unittest.TestCase):
         for seed in range(many):
             chance = Chance(random.Random(seed), calls=seed % 3 > 0, makes=seed % 2 > 0)
             tower = chance.good_tower()
+            plain = Plain(tower)
             for item in tower:
                 if item[0] == "part":
                     for one in item[3]:
-                        yield chance.chance, tower, item[2], one
-
-    def plainly(self, tower, body):
-        try:
-            return Plain(tower).laid(body)
-        except Refused:
-            return None
+                        yield chance.chance, plain, item[2], one
 
     def test_all_ways(self):
         told = {True: 0, False: 0}
-        for rng, tower, tongue_of, (_, params, kind, body) in self.functions(25):
-            try:
-                ground_term = laid(tower, body)
-            except TooBig:
-                continue
-            except NoMaking:
-                self.assertIsNone(self.plainly(tower, body))
-                told[False] += 1
-                continue
-            due = self.plainly(tower, body)
-            told[True] += 1
-            self.assertTrue(are_alike(tower, ground_term, due))
-            self.by_floors(tower, tongue_of, (params, kind, body), due)
-            if len(parts(due)) <= 300:
+        for rng, plain, tongue_of, (_, params, kind, body) in self.functions(25):
+            tower = plain.tower
+            for most in (PARTS, rng.randrange(1, 30)):
+                ground_term = row_of(laid, tower, body, most=most)
+                due = plain.laid(body, most)
+                if due[0] in ("making", "big"):
+                    self.assertEqual(ground_term, due)
+                    told[False] += 1
+                else:
+                    self.assertTrue(are_alike(tower, ground_term, due))
+                    told[True] += 1
+            due = plain.laid(body)
+            if due[0] not in ("making", "big") and len(parts(due)) <= 300:
+                self.by_floors(tower, tongue_of, (params, kind, body), due)
                 self.by_uses(rng, tower, body, due)
-        self.assertGreater(told[True], 100)
-        self.assertGreater(told[False], 5)
+        self.assertGreater(told[True], 200)
+        self.assertGreater(told[False], 50)
 
     def by_floors(self, tower, tongue_of, function_told, due):
         known, kind, body = function_told

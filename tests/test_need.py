@@ -2,6 +2,7 @@ import random
 import unittest
 
 from tests.chance import Chance
+from tests.plainly import Plain, row_of
 from tests.samples import (
     REST,
     TOWER,
@@ -25,7 +26,7 @@ from tests.tongues_made import FAR, LAG, LIT, LOW, NAME, NUM, TWO, form, functio
 from tonguetower.errors import NoBody, NoFunction, TooBig, TooLong, TowerError, Unmade
 from tonguetower.need import ran_by_need
 from tonguetower.runs import MOST, ran
-from tonguetower.towers import look_tower
+from tonguetower.towers import face_of, look_tower
 
 X, Y = name("x"), name("y")
 
@@ -189,37 +190,36 @@ class NeedTest(unittest.TestCase):
 
 
 class ChanceTest(unittest.TestCase):
+    """Runs by need tell what ran tells; where that is refused, what is found plainly."""
+
     def test_any_towers(self):
         told = {"same": 0, "refused": 0, "more": 0}
-        for seed in range(200, 230):
+        for seed in range(200, 240):
             chance = Chance(random.Random(seed), makes=seed % 2 > 0)
             tower = chance.good_tower()
+            if seed % 3 == 0:
+                tower = tuple([face_of(item) if item[1] == "p" else item for item in tower])
+            plain = Plain(tower)
             for item in [item for item in tower if item[0] == "part"]:
                 for one in item[3]:
-                    numbers = [chance.chance.choice([0, 1, 2, 5, 999]) for _ in one[1]]
-                    self.check(tower, f"{item[1]}.{one[0]}", numbers, told)
-        self.assertGreater(told["same"], 150)
-        self.assertGreater(told["refused"], 5)
+                    self.check(chance.chance, plain, f"{item[1]}.{one[0]}", len(one[1]), told)
+        self.assertGreater(told["same"], 300)
+        self.assertGreater(told["refused"], 40)
+        self.assertGreater(told["more"], 3)
 
-    def check(self, tower, f, numbers, told):
-        try:
-            due = ran(tower, f, numbers)
-        except (Unmade, NoBody):
-            try:
-                ran_by_need(tower, f, numbers)
-            except (Unmade, NoBody):
-                told["refused"] += 1
+    def check(self, rng, plain, f, many, told):
+        for most in (MOST, rng.randrange(1, 30)):
+            numbers = [rng.choice([0, 1, 2, 5, 999]) for _ in range(many)]
+            due = row_of(ran, plain.tower, f, numbers, most=most)
+            if due[0] == "big":
+                continue
+            found = row_of(ran_by_need, plain.tower, f, numbers, most=most)
+            self.assertEqual(found, plain.ran_seen(f, numbers, most, need=True)[0])
+            if due[0] in ("told", "fault", "long"):
+                self.assertEqual(found, due)
+                told["same"] += 1
             else:
-                told["more"] += 1
-        except TooLong as error:
-            with self.assertRaises(TooLong) as caught:
-                ran_by_need(tower, f, numbers)
-            self.assertEqual(caught.exception.most, error.most)
-        except TooBig:
-            return
-        else:
-            self.assertEqual(ran_by_need(tower, f, numbers), due)
-            told["same"] += 1
+                told["refused" if found[0] in ("unmade", "face") else "more"] += 1
 
 
 class FaceTest(unittest.TestCase):

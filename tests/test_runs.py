@@ -2,7 +2,7 @@ import random
 import unittest
 
 from tests.chance import Chance
-from tests.plainly import Plain
+from tests.plainly import Plain, row_of
 from tests.samples import (
     REST,
     TOWER,
@@ -554,28 +554,36 @@ class SeenTest(unittest.TestCase):
 
 
 class ChanceTest(unittest.TestCase):
-    """Runs by chance tell what is found plainly: number, fault, place, turns, and what is seen."""
+    """Runs by chance tell, or are refused, as is found plainly: number, fault, place, turns, and what is seen."""
 
     def test_any_towers(self):
-        told = {"told": 0, "fault": 0}
-        for seed in range(100, 125):
+        told = {"told": 0, "fault": 0, "unmade": 0, "face": 0, "long": 0, "big": 0}
+        for seed in range(100, 130):
             chance = Chance(random.Random(seed), makes=seed % 2 > 0)
             tower = chance.good_tower()
+            if seed % 3 == 0:
+                tower = tuple([face_of(item) if item[1] == "p" else item for item in tower])
             plain = Plain(tower)
             for item in [item for item in tower if item[0] == "part"]:
                 for one in item[3]:
-                    f = f"{item[1]}.{one[0]}"
-                    numbers = [chance.chance.choice([0, 1, 2, 5, 999]) for _ in one[1]]
-                    try:
-                        due = ran(tower, f, numbers)
-                    except TowerError:
-                        continue
-                    self.assertEqual(plain.ran_seen(f, numbers), (due, seen(tower, f, numbers)))
-                    told[due[0]] += 1
-                    if due[0] == "fault":
-                        self.assertEqual([other[2] for other in tower if other[1] == due[2].split(".")[0]], [item[2]])
-        self.assertGreater(told["told"], 100)
-        self.assertGreater(told["fault"], 20)
+                    self.check(chance.chance, plain, f"{item[1]}.{one[0]}", len(one[1]), told)
+        self.assertGreater(told["told"], 200)
+        for word in ("fault", "unmade"):
+            self.assertGreater(told[word], 40)
+        for word in ("face", "long"):
+            self.assertGreater(told[word], 0)
+
+    def check(self, rng, plain, f, many, told):
+        for most in (MOST, rng.randrange(1, 30)):
+            numbers = [rng.choice([0, 1, 2, 5, 999]) for _ in range(many)]
+            due, found = plain.ran_seen(f, numbers, most)
+            self.assertEqual(row_of(ran, plain.tower, f, numbers, most=most), due)
+            told[due[0]] += 1
+            if due[0] in ("told", "fault"):
+                self.assertEqual(seen(plain.tower, f, numbers, most=most), found)
+            if due[0] == "fault":
+                tongues = {item[1]: item[2] for item in plain.tower}
+                self.assertEqual(tongues[due[2].split(".")[0]], tongues[f.split(".")[0]])
 
     def test_parts_seen_are_written_uses(self):
         tower = (LOW, LAG)
