@@ -205,6 +205,7 @@ class Plain:
             for part in all_parts(self.body(g)):
                 if part.sort == "call" and part.word not in [*done, *row]:
                     row.append(part.word)
+        return done
 
     def body(self, f):
         if f not in self.functions:
@@ -215,6 +216,13 @@ class Plain:
             except Refused as refused:
                 raise Refused("unmade", f, *refused.row[1:]) if refused.row[0] == "making" else refused
         return self.bodies[f]
+
+    def body_by(self, f, most):
+        """A function's body, laid down to most parts, or the row of what is refused."""
+        try:
+            return self.laid_part(annotated(self.functions[f][1][3], [0]), most)
+        except Refused as refused:
+            return ("unmade", f, *refused.row[1:]) if refused.row[0] == "making" else refused.row
 
     # Running: the calls are rows (function, the call).
 

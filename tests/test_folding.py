@@ -421,6 +421,14 @@ class TwiceTest(unittest.TestCase):
             ran((*twice, user), "p.f", [1])
         self.assertEqual(ran_by_need((*twice, user), "p.f", [1])[:2], ("told", 513))
 
+    def test_numbers_hundreds_deep(self):
+        row = nested(750, lit(0), lambda inner, at: made("low.sum", inner, 1))
+        tower = (LOW, tongue(form("ROW", [LIT], num(row))), up(form("ROW", [LIT], t("ROW", row))))
+        found = folded(tower, "u")
+        self.assertIs(look_tower((*tower[:2], found)), True)
+        user = part("p", "u", function("f", (), u("ROW", 7)))
+        self.assertEqual(ran((*tower[:2], found, user), "p.f", []), ("told", 507, 1))
+
     def test_two_times_within_one_another(self):
         add = form("ADD", [term(), term()], plus(hole(0), hole(1)))
         high = up(

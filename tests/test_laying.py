@@ -580,6 +580,12 @@ class TooBigTest(unittest.TestCase):
         given = nested(1500, Y, lambda inner, at: t("DROP", X, inner))
         self.assertEqual(laid_use(BASE, given, 0), X)
 
+    def test_numbers_hundreds_deep(self):
+        row = nested(1500, lit(0), lambda inner, at: made("low.sum", inner, 1))
+        tower = (LOW, tongue(form("ROW", [LIT], num(row))))
+        self.assertIs(look_tower(tower), True)
+        self.assertEqual(laid(tower, t("ROW", 7)), num(507))
+
     def test_the_refusal_that_comes_first(self):
         bad = form("BAD", [LIT], times(lit(0), num(0), num(1)))
         tower = (tongue(bad, TW),)

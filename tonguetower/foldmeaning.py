@@ -113,17 +113,34 @@ class Fold:
         self.todo.extend([(*row, target) for row in rows[::-1]])
 
 
+def plain_number(number, sight, around):
+    """What stands for a number, where it is put now, but for what a made is made of; and what it sees."""
+    if isinstance(number, int) or number[0] == "made":
+        return (number, sight)
+    if number[0] == "turn":
+        return (("turn", around.floors - 1 - sight.steps[number[1]].floors), sight)
+    if sight.laid is None:
+        return (number, sight)
+    return plain_number(sight.laid.lits[number[1]], sight.laid.sight, around)
+
+
 def number_told(number, sight, around):
     """What stands for a number, where it is put now."""
-    if isinstance(number, int):
-        return number
-    if number[0] == "turn":
-        return ("turn", around.floors - 1 - sight.steps[number[1]].floors)
-    if number[0] == "made":
-        return ("made", number[1], tuple([number_told(inner, sight, around) for inner in number[2]]))
-    if sight.laid is None:
-        return number
-    return number_told(sight.laid.lits[number[1]], sight.laid.sight, around)
+    told = []
+    todo = [(number, sight, False)]
+    while todo:
+        inner, seeing, is_due = todo.pop()
+        if is_due:
+            many = len(told) - len(inner[2])
+            told[many:] = [("made", inner[1], tuple(told[many:]))]
+            continue
+        plain, seeing = plain_number(inner, seeing, around)
+        if isinstance(plain, tuple) and plain[0] == "made":
+            todo.append((plain, seeing, True))
+            todo.extend([(thing, seeing, False) for thing in plain[2][::-1]])
+        else:
+            told.append(plain)
+    return told[0]
 
 
 def put_use(fold, meaning, place, target):

@@ -57,14 +57,30 @@ class Growth:
         return root[0]
 
     def number(self, number, place):
-        """What stands for a number comes to."""
+        """What stands for a number comes to; what a made is made of is reckoned ahead of it, from left to right."""
+        told = []
+        todo = [(number, False)]
+        while todo:
+            inner, is_due = todo.pop()
+            if is_due:
+                many = len(told) - len(inner[2])
+                told[many:] = [self.made(inner[1], tuple(told[many:]))]
+            elif not isinstance(inner, int) and inner[0] == "made":
+                todo.append((inner, True))
+                todo.extend([(thing, False) for thing in inner[2][::-1]])
+            else:
+                told.append(self.plain_number(inner, place))
+        return told[0]
+
+    def plain_number(self, number, place):
+        """What stands for a number comes to where it isn't made."""
         if isinstance(number, int):
             return number
-        if number[0] == "lit":
-            return self.lits[number[1]]
-        if number[0] == "turn":
-            return place.turns[number[1]]
-        told, why = self.shop.number(number[1], tuple([self.number(inner, place) for inner in number[2]]))
+        return self.lits[number[1]] if number[0] == "lit" else place.turns[number[1]]
+
+    def made(self, f, numbers):
+        """What a function tells at making."""
+        told, why = self.shop.number(f, numbers)
         if why:
             raise NoMaking(self.at, why)
         return told

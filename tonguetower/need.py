@@ -3,6 +3,7 @@
 from tonguetower.laying import shop_of
 from tonguetower.machine import Run
 from tonguetower.runs import MOST
+from tonguetower.workshop import told_up
 
 
 class Needed:
@@ -24,4 +25,5 @@ def ran_by_need(tower, f, args, *, most=MOST):
     """What a function tells by its arguments, in how many turns, no more being laid down than is reckoned."""
     shop = shop_of(tower)
     run = Run(Needed(shop), most, {})
-    return shop.told_up(f, run.told(f, args))
+    told = run.told(f, args)
+    return told_up(tower, shop.heads[f][0], told)

@@ -2,6 +2,7 @@
 
 from tonguetower.laying import shop_of
 from tonguetower.machine import Run
+from tonguetower.workshop import told_up
 
 MOST = 20000
 
@@ -11,7 +12,7 @@ def ran(tower, f, args, *, most=MOST):
     shop = shop_of(tower)
     shop.lay_linked(f)
     run = Run(shop, most, {})
-    return shop.told_up(f, run.told(f, args))
+    return told_up(tower, shop.heads[f][0], run.told(f, args))
 
 
 def seen(tower, f, args, *, most=MOST):

@@ -14,6 +14,14 @@ def lays_all(node):
     return node.tongue != "ground"
 
 
+def told_up(tower, tongue, told):
+    """What a run told, a fault of ground being told as one of a tongue."""
+    if told[0] == "told":
+        return told
+    fault = fault_up(tower, told[1], "ground", tongue)
+    return ("fault", fault, *told[2:])
+
+
 class Workshop:
     """A tower's forms, its functions laid down by most parts, and what they told at making in at most so many turns."""
 
@@ -40,15 +48,19 @@ class Workshop:
         layer = Layer(self, [*names, *names_in(body)], lays_all)
         return Body(names, layer.begun(body))
 
+    def laid_body(self, f, most):
+        """A function's body, laid down, and all its parts, as they stand, at most so many."""
+        body = self.raw_body(f)
+        try:
+            return body, lay_whole(body.root, most)
+        except NoMaking as error:
+            raise Unmade(f, error.at, error.why) from None
+
     def lay(self, f):
         """Lays down a function, unless it has been."""
         if f in self.bodies:
             return
-        body = self.raw_body(f)
-        try:
-            pieces = lay_whole(body.root, self.most)
-        except NoMaking as error:
-            raise Unmade(f, error.at, error.why) from None
+        body, pieces = self.laid_body(f, self.most)
         self.bodies[f] = body
         self.calls[f] = [piece.word for piece in pieces if piece.shape == "call"]
 
@@ -75,13 +87,6 @@ class Workshop:
         tongue = self.heads[f][0]
         return {g: True for g, head in self.heads.items() if head[0] == tongue}
 
-    def told_up(self, f, told):
-        """What a run of a function told, a fault of ground being told as one of the function's tongue."""
-        if told[0] == "told":
-            return told
-        fault = fault_up(self.tower, told[1], "ground", self.heads[f][0])
-        return ("fault", fault, *told[2:])
-
     def number(self, f, numbers):
         """What a function tells at making by numbers: (a number, None), or (None, why there is none)."""
         if (f, numbers) not in self.numbers:
@@ -93,7 +98,7 @@ class Workshop:
         run = Run(self, self.turns, {})
         try:
             self.lay_linked(f)
-            told = self.told_up(f, run.told(f, numbers))
+            told = told_up(self.tower, self.heads[f][0], run.told(f, numbers))
         except NoBody:
             return (None, ("face",))
         except (Unmade, TooBig):
