@@ -5,7 +5,7 @@ import unittest
 from tests.chance import Chance
 from tests.plainly import Plain, Refused, row_of
 from tests.refusals import RefusalTest
-from tests.samples import REST, TOWER, call, ground, hole, let, letters, lit, loop, made, name, nested, num, plus, use
+from tests.samples import TOWER, call, ground, hole, let, letters, lit, loop, made, name, nested, num, plus, use
 from tests.tongues_made import LAG, LIT, LOW, NUM, form, function, part, term, tongue
 from tonguetower.errors import NoFunction, TooLong, TowerError, Twice
 from tonguetower.joining import joined, linked, ran_joined
@@ -27,7 +27,7 @@ def u(head, *things):
 
 
 def made_all(tower):
-    """All parts of a tower, made, each by the faces of the others alone, but of those that run at making."""
+    """All parts of a tower, made."""
     return [made_part(tower, item[1]) for item in tower if item[0] == "part"]
 
 
