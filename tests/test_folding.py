@@ -421,6 +421,30 @@ class TwiceTest(unittest.TestCase):
             ran((*twice, user), "p.f", [1])
         self.assertEqual(ran_by_need((*twice, user), "p.f", [1])[:2], ("told", 513))
 
+    def test_two_names_of_a_use_beneath(self):
+        def s(head, *things):
+            return use("s", head, *things)
+
+        pair = form("PAIR", [NAME, NAME, term(), term(), term(0, 1)], let(own(0), hole(0), let(own(1), hole(1), hole(2))))
+        low = tongue(pair, form("MIN", [term(), term()], ground("-", hole(0), hole(1))), called="s")
+        both = form("MIN", [term(), term()], s("PAIR", "a", "b", hole(0), hole(1), s("MIN", name("a"), name("b"))))
+        opened = s("PAIR", own(1), own(0), hole(0), hole(1), hole(2))
+        mid = tongue(both, form("OPEN", [NAME, NAME, term(), term(), term(0, 1)], opened), below="s", meaning="n")
+        high = up(
+            form("A", [term(), term()], t("MIN", hole(1), hole(0))),
+            form("B", [NAME, NAME, term(), term(0, 1)], t("OPEN", own(1), own(0), hole(0), hole(0), hole(1))),
+        )
+        tower = (low, mid, high)
+        self.assertIs(look_tower(tower), True)
+        found = folded(tower, "u")
+        self.assertIs(look_tower((low, mid, found)), True)
+        due = s("PAIR", "p", "q", hole(1), hole(0), s("MIN", name("p"), name("q")))
+        self.assertEqual(renumbered(found[6][0][3]), renumbered(due))
+        self.assertEqual(found[6][1][3], s("PAIR", own(0), own(1), hole(0), hole(0), hole(1)))
+        body = u("A", X, u("B", "c", "d", u("A", X, X), u("A", name("c"), name("d"))))
+        user = part("p", "u", function("f", (("x", "n"),), body))
+        self.assertEqual(ran((low, mid, found, user), "p.f", [5]), ran((*tower, user), "p.f", [5]))
+
     def test_numbers_hundreds_deep(self):
         row = nested(750, lit(0), lambda inner, at: made("low.sum", inner, 1))
         tower = (LOW, tongue(form("ROW", [LIT], num(row))), up(form("ROW", [LIT], t("ROW", row))))

@@ -291,6 +291,7 @@ class MeansTest(ReaderTest):
     def test_heads_and_calls_that_are_not_there(self):
         self.never("ADD $0 , $0", "A", "none.f", "low.none", "far.off $0", "mid.inc $0")
         self.means("num", name("num"))
+        self.never("NUM #low.same 1", "NUM ~low.same 1", "NUM xlow.same 1", "NUM low.same 1", "!low.same 1")
         self.bad(self.of("none.f"), 6, ahead=())
         self.bad(self.of("NUM !none.f"), 6, ahead=())
         self.bad(self.of("low.same $0"), 6, ahead=())

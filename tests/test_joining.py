@@ -143,6 +143,15 @@ class LinkedTest(RefusalTest):
         alone = ("program", (either[1][2],))
         self.refused(NoFunction, {"f": "lag.far"}, linked, alone, "p.f")
 
+    def test_parts_of_towers_that_stand_the_other_way_round(self):
+        p, q = part("p", "ground", function("f", NUM, X, "num")), part("q", "ground", function("g", NUM, X, "num"))
+        one = (q, part("p", "ground", function("f", NUM, call("q.g", X), "num")))
+        other = (p, part("q", "ground", function("g", NUM, plus(num(1), call("p.f", X)), "num")))
+        told = joined([made_part(one, "p"), made_part(other, "q")])
+        self.check(told, "p.f", "q.g")
+        self.check(told, "q.g", "p.f")
+        self.refused(TooLong, {"most": 20000}, ran_joined, (), told, "p.f", [1])
+
     def test_told_anew(self):
         told = self.calls(a=X, b=call("p.a", X))
         linked(told, "p.b").clear()

@@ -158,6 +158,17 @@ class TongueTest(StaleTest):
         self.check(tower, put(tower, more_of(high)), {"x": "u", "y": "u"})
         self.check(tower, put(tower, more_of(top)), {"y": "v"})
 
+    def test_things_of_other_sorts(self):
+        n = ("name", "n")
+        rows = [(num(7), num(lit(0))), (num(lit(0)), num(made("deep.f", 7))), (times(3, num(1), num(2)), num(1))]
+        rows.append((ground("LET", "ab", num(1), num(2)), ground("LET", ("own", 0), num(1), num(2))))
+        rows.append((choose(0, num(1)), choose(0, num(1), num(1))))
+        for one, other in rows:
+            old = (DEEP, tongue(form("A", [LIT, n], one)), part("p", "t"))
+            new = (DEEP, tongue(form("A", [LIT, n], other)), part("p", "t"))
+            self.check(old, new, {"p": "t"})
+            self.check(new, old, {"p": "t"})
+
     def test_another_tongue(self):
         lone = tongue(form("ID", [term()], hole(0)), called="lone")
         self.check(TOWER, (*TOWER, lone), {})
@@ -215,6 +226,13 @@ class CalledTest(StaleTest):
         self.check(TOWER, put(TOWER, face(SEEN)), {})
         self.check(TOWER, put(TOWER, face(SEEN, ("h", (), "num"))), {"side": "seen", "p": "seen"})
         self.check(put(TOWER, face(SEEN)), put(TOWER, face(SEEN, ("h", (), "num"))), {"side": "seen", "p": "seen"})
+
+    def test_a_name_is_no_part(self):
+        names = ground_part("x", X)
+        low = tongue(form("A", [], ground("LET", "x", num(1), name("x"))))
+        tower = (names, low, part("p", "t", function("f", ONE, X)), part("q", "ground", function("f", NUM, X, "num")))
+        self.check(tower, put(tower, face(names, ("h", (), "num"))), {})
+        self.check(tower, put(tower, ground_part("x", X, X)), {"x": "x"})
 
     def test_one_that_lacked(self):
         old = (*without(TOWER, "side")[:5], part("p", "t", function("f", ONE, t("N", 3))))

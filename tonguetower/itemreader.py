@@ -83,7 +83,7 @@ def read_head(words):
     """What the words of a head tell: (name, all words between this one and the kind, kind), or None."""
     if len(words) < 4 or words[0] != "def" or words[-2] != "to":
         return None
-    return (words[1], words[2:-2], words[-1]) if all_names([words[1], *words[2:-2], words[-1]]) else None
+    return (words[1], words[2:-2], words[-1]) if all_names(words[1:]) else None
 
 
 def read_face_head(row):
