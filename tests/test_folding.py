@@ -425,7 +425,9 @@ class TwiceTest(unittest.TestCase):
         def s(head, *things):
             return use("s", head, *things)
 
-        pair = form("PAIR", [NAME, NAME, term(), term(), term(0, 1)], let(own(0), hole(0), let(own(1), hole(1), hole(2))))
+        pair = form(
+            "PAIR", [NAME, NAME, term(), term(), term(0, 1)], let(own(0), hole(0), let(own(1), hole(1), hole(2)))
+        )
         low = tongue(pair, form("MIN", [term(), term()], ground("-", hole(0), hole(1))), called="s")
         both = form("MIN", [term(), term()], s("PAIR", "a", "b", hole(0), hole(1), s("MIN", name("a"), name("b"))))
         opened = s("PAIR", own(1), own(0), hole(0), hole(1), hole(2))

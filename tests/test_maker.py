@@ -1,3 +1,4 @@
+import inspect
 import random
 import unittest
 
@@ -67,6 +68,13 @@ class EmptyTest(MakerTest):
     def test_methods_of_its_own(self):
         for word in ("put", "drop", "several", "make", "tower", "made", "run", "log", "is_open", "__len__"):
             self.assertIn(word, vars(Maker))
+
+    def test_constants_as_defaults(self):
+        for tell, most in ((Maker, PARTS), (made_part, PARTS), (Maker.run, MOST), (ran_joined, MOST)):
+            parameter = inspect.signature(tell).parameters["most"]
+            self.assertEqual((parameter.default, parameter.kind), (most, inspect.Parameter.KEYWORD_ONLY))
+        parameter = inspect.signature(Maker.several).parameters["stay"]
+        self.assertEqual((parameter.default, parameter.kind), (False, inspect.Parameter.KEYWORD_ONLY))
 
 
 class PutTest(MakerTest):

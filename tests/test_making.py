@@ -25,7 +25,7 @@ from tests.samples import (
 )
 from tests.tongues_made import FAR, LAG, LIT, LOW, NAME, NUM, form, function, part, term, tongue
 from tonguetower.errors import TooBig, TowerError, Unmade
-from tonguetower.laying import PARTS, laid
+from tonguetower.laying import MAKING, PARTS, laid
 from tonguetower.making import made_part
 from tonguetower.names import are_alike
 from tonguetower.terms import parts
@@ -251,6 +251,15 @@ class RefusedTest(RefusalTest):
             tower = (*lay, high, part("p", "u", function("f", (), u("A"))))
             self.assertIs(look_tower(tower), True)
             self.refused(Unmade, {"f": "p.f", "at": 0, "why": ("unmade",)}, made_part, tower, "p")
+
+    def test_making_exactly_and_one_turn_more(self):
+        self.assertEqual(MAKING, 5000)
+        # slow takes 2 + 7 * 714 turns, slower one more.
+        forms = [form("AS", [], num(made("lag.slow", 7, 712))), form("ONE", [], num(made("lag.slower", 7, 712)))]
+        ahead = (LOW, LAG, tongue(*forms))
+        self.assertEqual(made_part(with_part(function("f", (), t("AS")), ahead=ahead), "p")[3][0][2], num(1))
+        fields = {"f": "p.f", "at": 0, "why": ("long",)}
+        self.refused(Unmade, fields, made_part, with_part(function("f", (), t("ONE")), ahead=ahead), "p")
 
     def test_most_exactly_and_one_more(self):
         tower = with_part(function("f", ONE, t("TW", t("TW", X))))

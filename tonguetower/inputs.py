@@ -37,7 +37,7 @@ class Inputs:
     """Gathers the inputs of a part of a tower: names of items that are needed whole, and of others by their faces."""
 
     def __init__(self, tower):
-        self.items = {item[1]: item for item in tower}
+        self.named = {item[1]: item for item in tower}
         self.whole = {}
         self.faces = {}
 
@@ -46,8 +46,8 @@ class Inputs:
         found = []
         name = item[2]
         while name != "ground":
-            found.append(self.items[name])
-            name = self.items[name][2]
+            found.append(self.named[name])
+            name = self.named[name][2]
         return found
 
     def meanings_of(self, item):
@@ -85,8 +85,8 @@ class Inputs:
             name = todo.pop()
             if name not in done:
                 done[name] = True
-                self.need_itself(self.items[name])
-                todo.extend([*self.calls_of(self.items[name]), *self.runs_of(self.items[name])])
+                self.need_itself(self.named[name])
+                todo.extend([*self.calls_of(self.named[name]), *self.runs_of(self.named[name])])
 
 
 def seen_of(item):

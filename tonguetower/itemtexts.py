@@ -1,16 +1,8 @@
 """Items as texts."""
 
-from tonguetower.texts import term_text
-from tonguetower.tongues import form_of
+from tonguetower.texts import term_text, text_by, written_use
 
 BEGINS = {"hole": "$", "own": "@", "lit": "#", "turn": "~"}
-
-
-def written_use(ahead, use):
-    """What is written of a use in a meaning, in order."""
-    left = list(use[3][::-1])
-    items = form_of(ahead, use[1], use[2])[1]
-    return [use[2], *[item[1] if item[0] == "sign" else left.pop() for item in items]]
 
 
 def written_of(ahead, thing):
@@ -33,15 +25,7 @@ def written_of(ahead, thing):
 
 def meaning_text(ahead, meaning):
     """A meaning's text, words parted by one blank."""
-    words = []
-    todo = [meaning]
-    while todo:
-        thing = todo.pop()
-        if isinstance(thing, tuple):
-            todo.extend(written_of(ahead, thing)[::-1])
-        else:
-            words.append(str(thing))
-    return " ".join(words)
+    return text_by(written_of, ahead, meaning)
 
 
 def item_word(item):
